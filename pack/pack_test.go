@@ -77,6 +77,14 @@ var texts = []struct{ s, want string }{
 var heads = [][]byte{nil, {}, {9}, {0x80}, {1, 2, 3, 4, 5, 6, 7, 8, 9, 10, 11, 12}}
 
 func TestExamples(t *testing.T) {
+	for x, want := range map[int]string{
+		0: "00", 1: "02", -1: "01", 63: "7e", 64: "80 01", -64: "7f", -65: "81 01",
+		math.MaxInt: "fe ff ff ff ff ff ff ff ff 01", math.MinInt: "ff ff ff ff ff ff ff ff ff 01",
+	} {
+		if b := pack.Num(nil, x); !bytes.Equal(b, fromHex(t, want)) {
+			t.Errorf("Num(nothing, %d) = % x, want %s", x, b, want)
+		}
+	}
 	if b := pack.Text(nil, "ab"); !bytes.Equal(b, fromHex(t, "04 61 62")) {
 		t.Errorf("Text(nothing, ab) = % x", b)
 	}
